@@ -1,0 +1,141 @@
+package grammar_test
+
+import (
+	"math"
+	"math/rand"
+	"slices"
+	"strings"
+	"testing"
+
+	"grammar/api"
+	"grammar/grammar"
+)
+
+// callAll makes every call; it ends, and does not panic, or the test fails.
+func callAll(spec string, rule int, text string, kinds []int) {
+	grammar.Check(spec)
+	grammar.Match(spec, rule, text)
+	grammar.Lex(spec, text)
+	grammar.Sets(spec)
+	grammar.Clashes(spec)
+	grammar.Parse(spec, kinds)
+	grammar.Run(spec, text)
+}
+
+// noise is n bytes, of those of an alphabet or, if it is empty, of all.
+func noise(r *rand.Rand, n int, alphabet string) string {
+	out := make([]byte, n)
+	for i := range out {
+		if alphabet == "" {
+			out[i] = byte(r.Intn(256))
+		} else {
+			out[i] = alphabet[r.Intn(len(alphabet))]
+		}
+	}
+	return string(out)
+}
+
+// damaged is a text in which some bytes are left out, put in or changed.
+func damaged(r *rand.Rand, text string, alphabet string) string {
+	for n := r.Intn(4); n > 0; n-- {
+		at := r.Intn(len(text) + 1)
+		to := min(len(text), at+r.Intn(3))
+		text = text[:at] + noise(r, r.Intn(3), alphabet) + text[to:]
+	}
+	return text
+}
+
+// specBytes are the bytes that specifications are made of, the telling ones more often.
+const specBytes = "abzABZ0 =~:\n\n\\[]()|*+?.^-nt{\t\x80"
+
+func TestEveryCallEnds(t *testing.T) {
+	r := rand.New(rand.NewSource(1))
+	rules := []int{0, 1, 4, 7, 8, -1, math.MaxInt, math.MinInt}
+	for i := 0; i < 4000; i++ {
+		rule := rules[r.Intn(len(rules))]
+		callAll(noise(r, r.Intn(900), ""), rule, noise(r, r.Intn(250), ""), []int{rule})
+		callAll(noise(r, r.Intn(40), specBytes), rule, noise(r, r.Intn(20), specBytes), nil)
+		callAll("a="+noise(r, r.Intn(12), specBytes[9:])+"\nS: a\n", rule, noise(r, r.Intn(20), "ab\n"), []int{0, rule})
+		callAll(damaged(r, sums, specBytes), rule, noise(r, r.Intn(20), "12+() "), []int{0, 1, 0})
+	}
+}
+
+// Patterns that cost most where every way through them is tried for itself.
+func TestEveryCallEndsAtCostlyPatterns(t *testing.T) {
+	text := strings.Repeat("a", api.MaxInput)
+	for _, pattern := range []string{
+		"(a*)*b", "((((((a*)*)*)*)*)*)*b", "(a|a)*b", "(a?)+b", strings.Repeat("a?", 390), strings.Repeat("a?", 380) + "b",
+		"a" + strings.Repeat("*", 780) + "b", "a" + strings.Repeat("*+?", 260) + "b", "((((((a+)+)+)+)+)+)+b", "(" + strings.Repeat("a*", 380) + ")*b",
+		"(" + strings.Repeat("a|", 390) + "a)*b", "(" + strings.Repeat(".?", 380) + ")*\\n",
+	} {
+		spec := "a=" + pattern + "\nz=a\nS: z\n"
+		if len(spec) > api.MaxSpec {
+			t.Fatalf("%.40q is too long", pattern)
+		}
+		callAll(spec, 0, text, nil)
+		callAll(spec, 0, text[1:]+"b", nil)
+	}
+}
+
+func TestAnswersDependOnArgumentsAlone(t *testing.T) {
+	other := "x=1+\ny~[^1]\nS: x S\nS:\n"
+	tokens, err, at := grammar.Lex(sums, "12 + 3")
+	for i := 0; i < 3; i++ {
+		grammar.Lex(other, "11 + 3")
+		grammar.Lex(sums, "x")
+		grammar.Lex("a=", "12 + 3")
+		grammar.Match(other, 0, "111")
+		grammar.Check(other)
+		again, againErr, againAt := grammar.Lex(sums, "12 + 3")
+		if !slices.Equal(tokens, again) || err != againErr || at != againAt {
+			t.Errorf("Lex answers %v, %d, %d and then %v, %d, %d", tokens, err, at, again, againErr, againAt)
+		}
+		if matches, err := grammar.Match(sums, 0, "11"); !matches || err != api.OK {
+			t.Errorf("Match answers %v, %d", matches, err)
+		}
+		if matches, err := grammar.Match(sums, 1, "11"); matches || err != api.OK {
+			t.Errorf("Match answers %v, %d", matches, err)
+		}
+		if err, at := grammar.Check("S: T\n"); err != api.ErrName || at != 3 {
+			t.Errorf("Check answers %d, %d", err, at)
+		}
+		if err, at := grammar.Check(sums); err != api.OK || at != 0 {
+			t.Errorf("Check answers %d, %d", err, at)
+		}
+	}
+}
+
+func TestListsAreFresh(t *testing.T) {
+	inputs := []string{"12 + 3", "1", "", "1+1+1+1+1", "(((((1)))))", strings.Repeat("1 ", 100)}
+	for _, input := range inputs {
+		first, _, _ := grammar.Lex(sums, input)
+		second, _, _ := grammar.Lex(sums, input)
+		want := slices.Clone(second)
+		// The spare room too is the caller's.
+		first = first[:cap(first)]
+		for i := range first {
+			first[i] = api.Token{Rule: -7, From: -7, To: -7}
+		}
+		third, _, _ := grammar.Lex(sums, input)
+		if !slices.Equal(second, want) || !slices.Equal(third, want) {
+			t.Errorf("Lex(%q): a list that was written into shows in another: %v, %v, want %v", input, second, third, want)
+		}
+		spare := second[len(second):cap(second)]
+		for _, token := range spare {
+			if token.Rule == -7 {
+				t.Errorf("Lex(%q): two lists share spare room", input)
+			}
+		}
+	}
+}
+
+func TestNoTokensBesideErrors(t *testing.T) {
+	for _, c := range []struct{ spec, input string }{
+		{sums, "1 + 2 -"}, {sums, strings.Repeat("1 ", 101)}, {sums + "?", "1"}, {sums + "Sum: x\n", "1"}, {sums + "num=1\n", "1"}, {sums + "x=x*\n", "1"}, {"num=1\n", "1"}, {strings.Repeat("S:\n", 300), "1"}, {"num=1\n" + strings.Repeat("S:\n", 21), "1"},
+	} {
+		tokens, err, _ := grammar.Lex(c.spec, c.input)
+		if err == api.OK || len(tokens) != 0 {
+			t.Errorf("Lex(%.60q, %.60q) = %v, %d", c.spec, c.input, tokens, err)
+		}
+	}
+}

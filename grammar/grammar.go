@@ -1,0 +1,61 @@
+// Package grammar: token rules and productions, and the trees that they give: see DOC.md.
+package grammar
+
+import (
+	"grammar/api"
+	"grammar/lexer"
+	"grammar/sheet"
+)
+
+// Check tells whether a specification is right, and where it is not (P3).
+func Check(spec string) (api.Errno, int) {
+	_, err, at := sheet.Check(spec)
+	return err, at
+}
+
+// Match tells whether a rule matches a text (P4).
+func Match(spec string, rule int, text string) (bool, api.Errno) {
+	rules, err := readRules(spec, text)
+	if err != api.OK {
+		return false, err
+	}
+	if rule < 0 || rule >= len(rules) {
+		return false, api.ErrArg
+	}
+	end := rules[rule].Pattern.Longest(text, 0)
+	return end == len(text), api.OK
+}
+
+// Lex cuts a text into tokens (P5).
+func Lex(spec string, input string) ([]api.Token, api.Errno, int) {
+	rules, err := readRules(spec, input)
+	if err != api.OK {
+		return nil, err, 0
+	}
+	return lexer.Cut(rules, input)
+}
+
+// readRules reads the rules of a specification that a text is to be held
+// against. The text's length comes first: too long goes ahead of all other errors.
+func readRules(spec string, text string) ([]sheet.Line, api.Errno) {
+	if len(text) > api.MaxInput {
+		return nil, api.ErrLong
+	}
+	lines, err, _ := sheet.Check(spec)
+	if err != api.OK {
+		return nil, err
+	}
+	return sheet.Rules(lines), api.OK
+}
+
+// Sets tells the sets of the heads (P6).
+func Sets(spec string) ([]api.Set, api.Errno) { return nil, api.OK }
+
+// Clashes tells the clashes of the productions (P7).
+func Clashes(spec string) ([]api.Clash, api.Errno) { return nil, api.OK }
+
+// Parse makes the tree of a string of kinds (P8).
+func Parse(spec string, kinds []int) (api.Parsed, api.Errno) { return api.Parsed{}, api.OK }
+
+// Run cuts a text into tokens and makes its tree (P9).
+func Run(spec string, input string) (api.Outcome, api.Errno) { return api.Outcome{}, api.OK }
