@@ -60,6 +60,35 @@ func TestEveryCallEnds(t *testing.T) {
 	}
 }
 
+// Productions at all limits, of heads that wind through each other.
+func TestEveryCallEndsAtManyProductions(t *testing.T) {
+	r := rand.New(rand.NewSource(2))
+	for i := 0; i < 2000; i++ {
+		d := deriver{rules: r.Intn(api.MaxRules + 1), heads: 1 + r.Intn(api.MaxHeads)}
+		ruled := r.Intn(5)
+		for len(d.prods) < api.MaxProds {
+			head := byte('A' + r.Intn(d.heads))
+			if n := len(d.prods); n < d.heads {
+				head = byte('A' + n)
+			}
+			symbols := noise(r, r.Intn(api.MaxSyms+1), "ABCDEFGH"[:d.heads])
+			if d.rules > 0 && r.Intn(4) < ruled {
+				symbols = noise(r, r.Intn(api.MaxSyms+1), "abcdefgh"[:d.rules]+"ABCDEFGH"[:d.heads])
+			}
+			d.prods = append(d.prods, derived{head, symbols})
+		}
+		spec := d.spec(r)
+		if err, at := grammar.Check(spec); err != api.OK {
+			t.Fatalf("Check(%q) = %d, %d", spec, err, at)
+		}
+		callAll(spec, 0, "xxx", []int{0, 0, 0})
+		sets, _ := grammar.Sets(spec)
+		if len(sets) != d.heads {
+			t.Errorf("Sets(%q): %d sets of %d heads", spec, len(sets), d.heads)
+		}
+	}
+}
+
 // Patterns that cost most where every way through them is tried for itself.
 func TestEveryCallEndsAtCostlyPatterns(t *testing.T) {
 	text := strings.Repeat("a", api.MaxInput)
@@ -80,7 +109,11 @@ func TestEveryCallEndsAtCostlyPatterns(t *testing.T) {
 func TestAnswersDependOnArgumentsAlone(t *testing.T) {
 	other := "x=1+\ny~[^1]\nS: x S\nS:\n"
 	tokens, err, at := grammar.Lex(sums, "12 + 3")
+	clashing := "a=a\nS: A a\nA: a\nA:\n"
 	for i := 0; i < 3; i++ {
+		testSets(t, []given{{sums, []string{"RF 0 2 | 3 5", "NRF 1 | 3 5", "RF 0 2 | 1 3 5"}}, {clashing, []string{"RF 0 | 1", "NRF 0 | 0"}}})
+		testClashes(t, clashing, clash(1, 0, 1, 2))
+		testClashes(t, sums)
 		grammar.Lex(other, "11 + 3")
 		grammar.Lex(sums, "x")
 		grammar.Lex("a=", "12 + 3")

@@ -4,6 +4,8 @@ package grammar
 import (
 	"grammar/api"
 	"grammar/lexer"
+	"grammar/prods"
+	"grammar/sets"
 	"grammar/sheet"
 )
 
@@ -49,10 +51,31 @@ func readRules(spec string, text string) ([]sheet.Line, api.Errno) {
 }
 
 // Sets tells the sets of the heads (P6).
-func Sets(spec string) ([]api.Set, api.Errno) { return nil, api.OK }
+func Sets(spec string) ([]api.Set, api.Errno) {
+	table, err := readTable(spec)
+	if err != api.OK {
+		return nil, err
+	}
+	return sets.Find(table), api.OK
+}
 
 // Clashes tells the clashes of the productions (P7).
-func Clashes(spec string) ([]api.Clash, api.Errno) { return nil, api.OK }
+func Clashes(spec string) ([]api.Clash, api.Errno) {
+	table, err := readTable(spec)
+	if err != api.OK {
+		return nil, err
+	}
+	return sets.Clashes(table), api.OK
+}
+
+// readTable reads the productions of a specification.
+func readTable(spec string) (prods.Table, api.Errno) {
+	lines, err, _ := sheet.Check(spec)
+	if err != api.OK {
+		return prods.Table{}, err
+	}
+	return prods.Read(lines), api.OK
+}
 
 // Parse makes the tree of a string of kinds (P8).
 func Parse(spec string, kinds []int) (api.Parsed, api.Errno) { return api.Parsed{}, api.OK }
