@@ -60,6 +60,27 @@ func TestEveryCallEnds(t *testing.T) {
 	}
 }
 
+// randomKinds are some kinds, at most one too many; most of them are rules' numbers.
+func randomKinds(r *rand.Rand, rules int) []int {
+	kinds := make([]int, r.Intn(api.MaxWord+2))
+	for i := range kinds {
+		kinds[i] = r.Intn(max(rules, 1))
+	}
+	if r.Intn(5) == 0 && len(kinds) > 0 {
+		kinds[r.Intn(len(kinds))] = r.Intn(12) - 2
+	}
+	return kinds
+}
+
+// Productions of which few clash, and heads that are not fruitful or derive nothing but themselves among them.
+func TestEveryCallEndsAtOrderlyProductions(t *testing.T) {
+	r := rand.New(rand.NewSource(3))
+	for i := 0; i < 3000; i++ {
+		d := orderlyDeriver(r)
+		callAll(d.spec(r), 0, strings.Repeat("x", r.Intn(api.MaxWord+2)), randomKinds(r, d.rules))
+	}
+}
+
 // Productions at all limits, of heads that wind through each other.
 func TestEveryCallEndsAtManyProductions(t *testing.T) {
 	r := rand.New(rand.NewSource(2))
@@ -82,6 +103,7 @@ func TestEveryCallEndsAtManyProductions(t *testing.T) {
 			t.Fatalf("Check(%q) = %d, %d", spec, err, at)
 		}
 		callAll(spec, 0, "xxx", []int{0, 0, 0})
+		callAll(spec, 0, strings.Repeat("x", api.MaxWord), randomKinds(r, d.rules))
 		sets, _ := grammar.Sets(spec)
 		if len(sets) != d.heads {
 			t.Errorf("Sets(%q): %d sets of %d heads", spec, len(sets), d.heads)
@@ -114,6 +136,11 @@ func TestAnswersDependOnArgumentsAlone(t *testing.T) {
 		testSets(t, []given{{sums, []string{"RF 0 2 | 3 5", "NRF 1 | 3 5", "RF 0 2 | 1 3 5"}}, {clashing, []string{"RF 0 | 1", "NRF 0 | 0"}}})
 		testClashes(t, clashing, clash(1, 0, 1, 2))
 		testClashes(t, sums)
+		testParse(t, sums, "0 1 0", "p0(p3(0) p1(1 p3(0) p2()))")
+		testParse(t, sums, "0 1 1 0", wrong(2, "0 2"))
+		testParse(t, clashing, "0", only(api.ErrClash))
+		testRun(t, other, "11 + 1", "0:0-2 0:5-6 p0(0 p0(0 p1()))")
+		testRun(t, sums, "1 +", wrong(3, "0 2"))
 		grammar.Lex(other, "11 + 3")
 		grammar.Lex(sums, "x")
 		grammar.Lex("a=", "12 + 3")

@@ -7,6 +7,7 @@ import (
 	"grammar/prods"
 	"grammar/sets"
 	"grammar/sheet"
+	"grammar/trees"
 )
 
 // Check tells whether a specification is right, and where it is not (P3).
@@ -78,7 +79,79 @@ func readTable(spec string) (prods.Table, api.Errno) {
 }
 
 // Parse makes the tree of a string of kinds (P8).
-func Parse(spec string, kinds []int) (api.Parsed, api.Errno) { return api.Parsed{}, api.OK }
+func Parse(spec string, kinds []int) (api.Parsed, api.Errno) {
+	if len(kinds) > api.MaxWord {
+		return api.Parsed{}, api.ErrLong
+	}
+	table, err := readTable(spec)
+	if err != api.OK {
+		return api.Parsed{}, err
+	}
+	if !areRules(table, kinds) {
+		return api.Parsed{}, api.ErrArg
+	}
+	if isClashing(table) {
+		return api.Parsed{}, api.ErrClash
+	}
+	return trees.Grow(table, kinds)
+}
+
+func areRules(table prods.Table, kinds []int) bool {
+	for _, kind := range kinds {
+		if kind < 0 || kind >= table.Rules {
+			return false
+		}
+	}
+	return true
+}
+
+func isClashing(table prods.Table) bool {
+	clashes := sets.Clashes(table)
+	return len(clashes) > 0
+}
 
 // Run cuts a text into tokens and makes its tree (P9).
-func Run(spec string, input string) (api.Outcome, api.Errno) { return api.Outcome{}, api.OK }
+func Run(spec string, input string) (api.Outcome, api.Errno) {
+	if len(input) > api.MaxInput {
+		return api.Outcome{}, api.ErrLong
+	}
+	lines, err, _ := sheet.Check(spec)
+	if err != api.OK {
+		return api.Outcome{}, err
+	}
+	table := prods.Read(lines)
+	if isClashing(table) {
+		return api.Outcome{}, api.ErrClash
+	}
+	rules := sheet.Rules(lines)
+	tokens, err, at := lexer.Cut(rules, input)
+	if err != api.OK {
+		return api.Outcome{At: at}, err
+	}
+	if len(tokens) > api.MaxWord {
+		return api.Outcome{}, api.ErrLong
+	}
+	kinds := kindsOf(tokens)
+	parsed, err := trees.Grow(table, kinds)
+	if err != api.OK {
+		place := placeOf(tokens, parsed.At, input)
+		return api.Outcome{Wanted: parsed.Wanted, At: place}, err
+	}
+	return api.Outcome{Tokens: tokens, Nodes: parsed.Nodes}, api.OK
+}
+
+func kindsOf(tokens []api.Token) []int {
+	var kinds []int
+	for _, token := range tokens {
+		kinds = append(kinds, token.Rule)
+	}
+	return kinds
+}
+
+// placeOf is where the token of a number begins, or behind the last one the input's end.
+func placeOf(tokens []api.Token, number int, input string) int {
+	if number < 0 || number >= len(tokens) {
+		return len(input)
+	}
+	return tokens[number].From
+}
